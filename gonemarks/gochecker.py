@@ -3,7 +3,7 @@
 from gonemarks.errors import NoPaper
 from gonemarks.kinds import CUTS, LEFTS, ROOTS, are_rows, is_from, is_m, is_row
 from gonemarks.knowing import acks_of
-from gonemarks.names import child_of, is_seat
+from gonemarks.names import is_seat
 
 
 def is_paper_row(thing):
@@ -30,7 +30,7 @@ def row_is_so(book, dot, row):
 
 
 def children_stand(row, standing):
-    return all(child_of(row[0], i) in standing for i in range(1, row[3] + 1))
+    return all(row[0] + (i,) in standing for i in range(1, row[3] + 1))
 
 
 def lets_go(book, dot, thing):

@@ -42,3 +42,8 @@ def heads_rise(rows):
 def are_rows(thing, is_one):
     """Whether it is a rising tuple of such rows; kinds come first, so that heads can be compared."""
     return isinstance(thing, tuple) and all(is_one(row) for row in thing) and heads_rise(thing)
+
+
+def with_part(book, at, part):
+    """The book with another part in this place."""
+    return book[:at] + (part,) + book[at + 1:]

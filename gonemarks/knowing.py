@@ -1,7 +1,6 @@
 """What a book knows of who has a dot's mark, and whom it still has to ask."""
 
 from gonemarks.kinds import CUTS, LEFTS, MARKS, ROOTS
-from gonemarks.names import child_of
 
 
 def acks_of(book, dot):
@@ -25,7 +24,7 @@ def children_within(book, dot, seats):
     for seat in seats:
         reach = reach_of(book, dot, seat)
         if reach is not None:
-            children.extend([child_of(seat, i) for i in range(1, reach + 1)])
+            children.extend([seat + (i,) for i in range(1, reach + 1)])
     return children
 
 

@@ -4,6 +4,7 @@ import copy
 import itertools
 import unittest
 
+from gonemarks.books import right_book
 from gonemarks.errors import GoneError, NoPaper
 from gonemarks.gochecker import is_paper, lets_go
 from gonemarks.knowing import closure, lacking
@@ -97,6 +98,7 @@ class Letting(unittest.TestCase):
         return one[:8] + ((((0, 2), 1), ((0, 2, 1), 0)),) + one[9:]
 
     def test_let_by(self):
+        self.assertIs(right_book(self.whole()), True)
         self.let_by(self.whole(), self.PAPER)
         only = book((0,), 1, 1, 1, 0, marks=((((0,), 1), (((0,), 1, 0),)),))
         self.let_by(only, (((0,), "has", 1, 0),), ((0,), 1))

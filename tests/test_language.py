@@ -13,6 +13,11 @@ INTERFACE = {
     "names": "is_seat is_dot is_thing begins child_of stems",
     "knowing": "acks_of reach_of closure lacking asks",
     "gochecker": "is_paper lets_go",
+    "books": "are_things are_marks are_lefts is_book first_book right_book known_seats",
+    "texts": "number_text seat_text dot_text read_number read_seat read_dot row_text read_row book_lines read_book",
+    "letters": "is_letter is_right_letter tell tell_all",
+    "going": "paper_for let_go",
+    "paperlines": "paper_lines read_paper",
 }
 
 BARRED = set("""type typing typing_extensions enum Enum IntEnum StrEnum Flag IntFlag Generic Protocol ABC ABCMeta
