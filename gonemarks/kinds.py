@@ -34,14 +34,19 @@ def is_row(thing, size):
     return isinstance(thing, tuple) and len(thing) == size
 
 
-def heads_rise(rows):
-    """Whether each row's first item is greater than the one ahead: sorted, and none twice."""
-    return all(rows[k][0] < rows[k + 1][0] for k in range(len(rows) - 1))
+def rise(items):
+    """Whether each item is greater than the one ahead: sorted, and none twice."""
+    return all(items[k] < items[k + 1] for k in range(len(items) - 1))
 
 
 def are_rows(thing, is_one):
     """Whether it is a rising tuple of such rows; kinds come first, so that heads can be compared."""
-    return isinstance(thing, tuple) and all(is_one(row) for row in thing) and heads_rise(thing)
+    return isinstance(thing, tuple) and all(is_one(row) for row in thing) and rise([row[0] for row in thing])
+
+
+def has_head(rows, head):
+    """Whether one of the rows has this dot, or this seat, ahead."""
+    return any(row[0] == head for row in rows)
 
 
 def with_part(book, at, part):

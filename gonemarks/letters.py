@@ -2,12 +2,8 @@
 
 from gonemarks.books import are_lefts, are_marks, are_things
 from gonemarks.errors import NoDeed
-from gonemarks.kinds import LEFTS, MARKS, SEAT, THINGS, TURN, is_from, is_row, with_part
+from gonemarks.kinds import LEFTS, MARKS, SEAT, THINGS, TURN, has_head, is_from, is_row, with_part
 from gonemarks.names import is_dot, is_seat
-
-
-def has_ack(mark, seat):
-    return any(ack[0] == seat for ack in mark[1])
 
 
 def is_letter(thing):
@@ -19,7 +15,7 @@ def is_letter(thing):
         return False
     if not are_things(things) or not are_marks(marks) or not are_lefts(lefts):
         return False
-    return all(has_ack(mark, seat) for mark in marks)
+    return all(has_head(mark[1], seat) for mark in marks)
 
 
 def is_right_letter(thing):

@@ -2,7 +2,7 @@
 
 from gonemarks.books import are_cuts, are_fences, are_lefts, are_marks, are_things, is_head
 from gonemarks.errors import NoLines
-from gonemarks.kinds import CUTS, FENCES, LEFTS, MARKS, THINGS
+from gonemarks.kinds import THINGS
 from gonemarks.names import is_dot, is_seat
 
 FIGURES = "0123456789"
@@ -143,22 +143,29 @@ def read_row(text):
     return None if what is None else (words[0], what)
 
 
+def part_lines(word, part):
+    """The lines that write a part of a book or a letter, each of them as a ROW of this word."""
+    return [row_text((word, what)) for what in part]
+
+
 def book_lines(book):
     """The lines that write a book."""
-    rows = [("seat", book[:THINGS])]
-    for word, at in (("thing", THINGS), ("mark", MARKS), ("fence", FENCES), ("cut", CUTS), ("left", LEFTS)):
-        rows.extend([(word, what) for what in book[at]])
-    return [row_text(row) for row in rows]
+    lines = [row_text(("seat", book[:THINGS]))]
+    for word, part in zip(ORDER[1:], book[THINGS:]):
+        lines.extend(part_lines(word, part))
+    return lines
+
+
+def may_follow(row, last):
+    """Whether a row may stand right behind the last one, as a book's lines have them."""
+    if row[0] == last[0]:
+        return row[0] != "seat" and row[1][0] > last[1][0]
+    return ORDER.index(row[0]) > ORDER.index(last[0])
 
 
 def may_stand(row, ahead):
     """Whether a row may stand behind the rows ahead of it, as a book's lines have them."""
-    if not ahead:
-        return row[0] == "seat"
-    last = ahead[-1]
-    if row[0] == last[0]:
-        return row[0] != "seat" and row[1][0] > last[1][0]
-    return ORDER.index(row[0]) > ORDER.index(last[0])
+    return may_follow(row, ahead[-1]) if ahead else row[0] == "seat"
 
 
 def read_rows(lines):

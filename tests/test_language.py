@@ -18,6 +18,10 @@ INTERFACE = {
     "letters": "is_letter is_right_letter tell tell_all",
     "going": "paper_for let_go",
     "paperlines": "paper_lines read_paper",
+    "taking": "passes_over is_passed take",
+    "worlds": "is_world first_world seats_of sitting book_of counts_of holders markers tellers",
+    "shields": "shielded",
+    "worldchecker": "lets_world",
 }
 
 BARRED = set("""type typing typing_extensions enum Enum IntEnum StrEnum Flag IntFlag Generic Protocol ABC ABCMeta
