@@ -72,18 +72,22 @@ def first_book(seat, roots):
     return (seat, roots, 0, 0, 0, (), (), (), (), ())
 
 
-def all_acks(book):
-    return [ack for mark in book[MARKS] for ack in mark[1]]
+def all_dots(things, marks):
+    """The dots of these things, of the dots within which they are, and of these marks, perhaps twice."""
+    withins = [held[1][0] for held in things if held[1][0] != ()]
+    return [row[0] for row in things + marks] + withins
+
+
+def all_acks(marks):
+    return [ack for mark in marks for ack in mark[1]]
 
 
 def named_seats(book):
     """The seats that the book itself names, perhaps twice; without stems and elder children."""
-    withins = [held[1][0] for held in book[THINGS] if held[1][0] != ()]
-    dots = [row[0] for row in book[THINGS] + book[MARKS]] + withins
     counted = [(book[SEAT], book[BROUGHT])]
-    counted.extend([(row[0], row[-1]) for row in (*all_acks(book), *book[CUTS], *book[LEFTS])])
+    counted.extend([(row[0], row[-1]) for row in (*all_acks(book[MARKS]), *book[CUTS], *book[LEFTS])])
     seats = [(root,) for root in range(book[ROOTS])]
-    seats.extend([dot[0] for dot in dots])
+    seats.extend([dot[0] for dot in all_dots(book[THINGS], book[MARKS])])
     seats.extend([fence[0] for fence in book[FENCES]])
     seats.extend([row[0] for row in counted])
     seats.extend([seat + (m,) for seat, m in counted if m > 0])
@@ -160,7 +164,7 @@ def left_place(book, known):
     """The first left that tells less letters or children of its seat than the book itself does."""
     letters = {}
     children = {}
-    for seat, a, m in all_acks(book):
+    for seat, a, m in all_acks(book[MARKS]):
         lift(letters, seat, a)
         lift(children, seat, m)
     for seat, f in book[FENCES]:

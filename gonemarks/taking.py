@@ -32,7 +32,7 @@ def least_of_each(rows):
     for row in sorted(rows):
         if row[0] not in least:
             least[row[0]] = row
-    return tuple(least[seat] for seat in sorted(least))
+    return tuple(least[seat] for seat in least)
 
 
 def take_marks(book, told):

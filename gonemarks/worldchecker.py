@@ -1,6 +1,6 @@
 """The small checker of worlds: it seeks nothing, it looks page by page."""
 
-from gonemarks.books import first_true, is_behind, right_book
+from gonemarks.books import all_acks, all_dots, first_true, is_behind, right_book
 from gonemarks.errors import NoBook, NoWorld
 from gonemarks.kinds import ROOTS, SEAT, THINGS, has_head
 from gonemarks.letters import is_right_letter
@@ -40,10 +40,8 @@ def pages_of(world):
 def names_others(counts, page):
     """Whether a seat stands in the page that isn't there, or a dot that its seat has yet to put."""
     things, marks, fences, cuts, lefts = page
-    withins = [held[1][0] for held in things if held[1][0] != ()]
-    dots = [row[0] for row in things + marks] + withins
-    acks = [ack for mark in marks for ack in mark[1]]
-    if not all(row[0] in counts for row in (*dots, *acks, *fences, *cuts, *lefts)):
+    dots = all_dots(things, marks)
+    if not all(row[0] in counts for row in (*dots, *all_acks(marks), *fences, *cuts, *lefts)):
         return True
     return any(k > counts[seat][1] for seat, k in dots)
 

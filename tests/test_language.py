@@ -22,6 +22,11 @@ INTERFACE = {
     "worlds": "is_world first_world seats_of sitting book_of counts_of holders markers tellers",
     "shields": "shielded",
     "worldchecker": "lets_world",
+    "own": "thing_of going_with put out",
+    "lettertexts": "letter_lines read_letter",
+    "worldlines": "world_lines read_world",
+    "backchecker": "lets_back steps_back",
+    "contrary": "contrary_for verdict contrary_lines read_contrary",
 }
 
 BARRED = set("""type typing typing_extensions enum Enum IntEnum StrEnum Flag IntFlag Generic Protocol ABC ABCMeta

@@ -5,12 +5,11 @@ import itertools
 import unittest
 
 from gonemarks import errors
-from gonemarks.books import known_seats
 from gonemarks.errors import GoneError, NoWorld
 from gonemarks.worldchecker import lets_world
 from gonemarks.worlds import first_world, is_world
 from tests.samples import FORTY, ODD, RIGHT, book, spoiled
-from tests.walks import books_in, spoiled_worlds, verdict_by_words, walk
+from tests.walks import books_in, lonely, spoiled_worlds, verdict_by_words, walk
 
 A, B, C = ((0,), 1), ((0,), 2), ((1,), 1)
 THING, OTHER = ((), "a", 1), ((), "b", 2)
@@ -377,23 +376,9 @@ class Checker(unittest.TestCase):
 
 class Lonely(unittest.TestCase):
     def test_each_right_book_stands_in_a_right_world(self):
-        """[12], of worlds: all others that it knows are off, with what it tells of them."""
+        """[12], of worlds."""
         for one in RIGHT:
             self.assertIs(lets_world(lonely(one)), True)
-
-
-def lonely(one):
-    """A world in which a right book's seat sits alone."""
-    known = known_seats(one)
-    acks = [ack for dot, acks in one[6] for ack in acks]
-    dots = [dot for dot, what in one[5] + one[6]] + [thing[0] for dot, thing in one[5] if thing[0]]
-    seats = []
-    for seat in known:
-        turn = max([0, *[row[1] for row in [*acks, *one[7], *one[9]] if row[0] == seat]])
-        made = max([0, *[k for s, k in dots if s == seat]])
-        brought = max([0, *[other[-1] for other in known if other[:-1] == seat]])
-        seats.append((seat, one if seat == one[0] else (turn, made, brought)))
-    return (one[1], tuple(seats), ())
 
 
 if __name__ == "__main__":

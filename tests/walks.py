@@ -147,6 +147,20 @@ def walk(number, steps=24):
     return walked
 
 
+def lonely(one):
+    """A world in which a right book's seat sits alone; all others that it knows are off, with what it tells of them."""
+    known = known_seats(one)
+    acks = [ack for dot, acks in one[6] for ack in acks]
+    dots = [dot for dot, what in one[5] + one[6]] + [thing[0] for dot, thing in one[5] if thing[0]]
+    seats = []
+    for seat in known:
+        turn = max([0, *[row[1] for row in [*acks, *one[7], *one[9]] if row[0] == seat]])
+        made = max([0, *[k for s, k in dots if s == seat]])
+        brought = max([0, *[other[-1] for other in known if other[:-1] == seat]])
+        seats.append((seat, one if seat == one[0] else (turn, made, brought)))
+    return (one[1], tuple(seats), ())
+
+
 def dots_in(world):
     """All dots that seats of the world put."""
     return [(seat, k) for seat, counts in counts_in(world).items() for k in range(1, min(counts[1], 60) + 1)]
