@@ -20,11 +20,12 @@ def shielded(world, dot):
     told = [row for row in tellers(world, dot) if row[0] in there]
     marking = markers(world, dot)
     counting = {seat: book for seat, book in sitting_entries(world) if seat not in marking}
-    bare = {}
     falling = [*holders(world, dot), *[seat for seat in counting if would_take(seat, counting[seat], told)]]
+    bare = {seat: True for seat in falling}
     while falling:
         z = falling.pop()
-        if z not in bare:
-            bare[z] = True
-            falling.extend([x for x in counting if x not in bare and not passes_over(counting[x], z)])
+        fallen = [x for x in counting if x not in bare and not passes_over(counting[x], z)]
+        for seat in fallen:
+            bare[seat] = True
+            falling.append(seat)
     return tuple(seat for seat in sitting(world) if seat not in bare)
