@@ -18,14 +18,17 @@ def is_letter(thing):
     return all(has_head(mark[1], seat) for mark in marks)
 
 
-def is_right_letter(thing):
-    """Of any plain thing: whether it is a right LETTER."""
-    if not is_letter(thing):
-        return False
-    seat, number, things, marks, lefts = thing
+def is_right(letter):
+    """Whether a LETTER is a right one."""
+    seat, number, things, marks, lefts = letter
     marked = {mark[0]: True for mark in marks}
     late = [ack for mark in marks for ack in mark[1] if ack[0] == seat and ack[1] > number]
     return not late and all(held[0] not in marked for held in things) and all(left[0] != seat for left in lefts)
+
+
+def is_right_letter(thing):
+    """Of any plain thing: whether it is a right LETTER."""
+    return is_letter(thing) and is_right(thing)
 
 
 def chosen_dots(book, dots):
@@ -48,6 +51,11 @@ def tell(book, dots):
     return (with_part(book, TURN, book[TURN] + 1), letter)
 
 
+def dots_of(book):
+    """The dots that the book holds or marks, rising."""
+    return tuple(sorted([row[0] for row in book[THINGS] + book[MARKS]]))
+
+
 def tell_all(book):
     """The book behind telling all its dots, and the letter that tells them."""
-    return tell(book, [row[0] for row in book[THINGS] + book[MARKS]])
+    return tell(book, dots_of(book))

@@ -10,22 +10,28 @@ def would_take(seat, book, told):
     return any(number >= fence_of(book, z) for z, number in others)
 
 
-def shielded(world, dot):
-    """The greatest set of seats that are shielded for the dot, rising.
+def bare(world, dot, telling):
+    """The seats that sit and aren't shielded for the dot, which these letters tell; given as keys.
 
-    What is sought is who is not in it: the least set with all that hold the dot or would take it from a letter, and
-    with each seat that counts on one in it, not having the mark.
+    They are the least set with all that hold the dot or would take it from a letter, and with each seat that counts
+    on one in it, not having the mark.
     """
     there = seats_of(world)
-    told = [row for row in tellers(world, dot) if row[0] in there]
+    told = [row for row in telling if row[0] in there]
     marking = markers(world, dot)
     counting = {seat: book for seat, book in sitting_entries(world) if seat not in marking}
     falling = [*holders(world, dot), *[seat for seat in counting if would_take(seat, counting[seat], told)]]
-    bare = {seat: True for seat in falling}
+    found = {seat: True for seat in falling}
     while falling:
         z = falling.pop()
-        fallen = [x for x in counting if x not in bare and not passes_over(counting[x], z)]
+        fallen = [x for x in counting if x not in found and not passes_over(counting[x], z)]
         for seat in fallen:
-            bare[seat] = True
+            found[seat] = True
             falling.append(seat)
-    return tuple(seat for seat in sitting(world) if seat not in bare)
+    return found
+
+
+def shielded(world, dot):
+    """The greatest set of seats that are shielded for the dot, rising."""
+    others = bare(world, dot, tellers(world, dot))
+    return tuple(seat for seat in sitting(world) if seat not in others)

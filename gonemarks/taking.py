@@ -2,7 +2,6 @@
 
 from gonemarks.books import is_behind
 from gonemarks.kinds import BROUGHT, CUTS, FENCES, LEFTS, MARKS, SEAT, THINGS, TURN, with_part
-from gonemarks.knowing import acks_of
 
 
 def passes_over(book, seat):
@@ -39,7 +38,7 @@ def take_marks(book, told):
     own = (book[SEAT], book[TURN], book[BROUGHT])
     marks = {mark[0]: mark[1] for mark in book[MARKS]}
     for dot, acks in told:
-        marks[dot] = least_of_each((*acks, *acks_of(book, dot), own))
+        marks[dot] = least_of_each((*acks, *marks.get(dot, ()), own))
     things = tuple(held for held in book[THINGS] if held[0] not in marks)
     return with_part(with_part(book, THINGS, things), MARKS, tuple((dot, marks[dot]) for dot in sorted(marks)))
 

@@ -48,6 +48,16 @@ def read_dot(text):
     return dot if is_dot(dot) else None
 
 
+def place_text(place):
+    """The text of a dot, or of ()."""
+    return "-" if place == () else dot_text(place)
+
+
+def read_place(text):
+    """The dot, or (), that the text writes, or None."""
+    return () if text == "-" else read_dot(text)
+
+
 def counts_words(row):
     """The words of a seat and the numbers behind it."""
     return [seat_text(row[0])] + [number_text(number) for number in row[1:]]
@@ -60,8 +70,7 @@ def paired(words, others):
 
 def thing_words(held):
     dot, (within, name, value) = held
-    place = "-" if within == () else dot_text(within)
-    return paired(THING_WORDS, [dot_text(dot), place, name, number_text(value)])
+    return paired(THING_WORDS, [dot_text(dot), place_text(within), name, number_text(value)])
 
 
 def mark_words(mark):
@@ -101,8 +110,7 @@ def read_thing(words):
     if len(words) != 8 or tuple(words[0::2]) != THING_WORDS:
         return None
     dot, place, name, value = words[1::2]
-    within = () if place == "-" else read_dot(place)
-    held = (read_dot(dot), (within, name, read_number(value)))
+    held = (read_dot(dot), (read_place(place), name, read_number(value)))
     return held if are_things((held,)) else None
 
 

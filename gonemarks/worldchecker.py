@@ -3,9 +3,9 @@
 from gonemarks.books import all_acks, all_dots, first_true, is_behind, right_book
 from gonemarks.errors import NoBook, NoWorld
 from gonemarks.kinds import ROOTS, SEAT, THINGS, has_head
-from gonemarks.letters import is_right_letter
-from gonemarks.shields import shielded
-from gonemarks.worlds import all_counts, is_world, seats_of, sitting, sitting_entries, tellers
+from gonemarks.letters import is_right
+from gonemarks.shields import bare
+from gonemarks.worlds import all_counts, all_tellers, is_world, seats_of, sitting, sitting_entries
 
 
 def has_just_its_seats(world):
@@ -28,7 +28,7 @@ def is_book_here(world, entry):
 
 def is_letter_here(counts, letter):
     seat, number = letter[:2]
-    return is_right_letter(letter) and seat in counts and number < counts[seat][0]
+    return is_right(letter) and seat in counts and number < counts[seat][0]
 
 
 def pages_of(world):
@@ -74,42 +74,49 @@ def lefts_are_so(counts, sits, page):
     return True
 
 
-def bare_of(world, pages):
-    """Of each dot that stands on some page, as a thing or a mark, the sitting seats that aren't shielded for it."""
-    bare = {}
+def looks_at(world, pages):
+    """Of each dot that stands on some page, as a thing or a mark: the seats that are bare of a shield, the tellers."""
+    told = all_tellers(world)
+    looks = {}
     for page in pages:
         for row in page[0] + page[1]:
-            if row[0] not in bare:
-                shields = shielded(world, row[0])
-                bare[row[0]] = [seat for seat in sitting(world) if seat not in shields]
-    return bare
+            if row[0] not in looks:
+                telling = told.get(row[0], [])
+                looks[row[0]] = (bare(world, row[0], telling), telling)
+    return looks
 
 
-def ack_is_true(counts, bare, told, ack):
-    """Whether an ACK is true of a dot for which these seats are bare, and which these letters tell."""
+def ack_is_true(counts, look, ack):
+    """Whether an ACK is true of a dot, given the bare seats and the tellers of this one."""
     y, a, m = ack
+    without, told = look
     turn, made, brought = counts[y]
-    if a > turn or m > brought or any(seat == y or is_behind(seat, y, m) for seat in bare):
+    if a > turn or m > brought or any(seat == y or is_behind(seat, y, m) for seat in without):
         return False
     return not any((seat == y and number >= a) or is_behind(seat, y, m) for seat, number in told)
 
 
-def acks_are_true(world, counts, bare, page):
-    for dot, acks in page[1]:
-        told = tellers(world, dot)
-        if not all(ack_is_true(counts, bare[dot], told, ack) for ack in acks):
-            return False
-    return True
+def with_untrue_acks(counts, looks, pages):
+    """Of each page whether an ACK in it isn't true; one that stands on many pages is looked at once."""
+    judged = {}
+    truths = []
+    for page in pages:
+        rows = [(dot, ack) for dot, acks in page[1] for ack in acks]
+        for dot, ack in rows:
+            if (dot, ack) not in judged:
+                judged[(dot, ack)] = ack_is_true(counts, looks[dot], ack)
+        truths.append(not all(judged[row] for row in rows))
+    return truths
 
 
-def lost_its_own(bare, entry):
+def lost_its_own(looks, entry):
     """Whether the seat neither holds, nor is shielded for, a dot of its own.
 
     For a dot that is neither held nor told anywhere all are shielded, so only those on pages are looked at: made may
     be any number.
     """
     seat, book = entry
-    return any(dot[0] == seat and seat in bare[dot] and not has_head(book[THINGS], dot) for dot in bare)
+    return any(dot[0] == seat and seat in looks[dot][0] and not has_head(book[THINGS], dot) for dot in looks)
 
 
 def refuse_where(word, truths):
@@ -135,7 +142,7 @@ def lets_world(thing):
     refuse_where("fence", [not fences_are_so(counts, page) for page in pages])
     refuse_where("cut", [not cuts_are_so(counts, page) for page in pages])
     refuse_where("left", [not lefts_are_so(counts, sitting(thing), page) for page in pages])
-    bare = bare_of(thing, pages)
-    refuse_where("ack", [not acks_are_true(thing, counts, bare, page) for page in pages])
-    refuse_where("own", [lost_its_own(bare, entry) for entry in entries])
+    looks = looks_at(thing, pages)
+    refuse_where("ack", with_untrue_acks(counts, looks, pages))
+    refuse_where("own", [lost_its_own(looks, entry) for entry in entries])
     return True

@@ -76,6 +76,14 @@ def counts_of(world, seat):
     return all_counts(world).get(seat)
 
 
+def letter_of(world, name):
+    """The letter of this (sender, number), None where there is none."""
+    for letter in world[2]:
+        if letter[:2] == name:
+            return letter
+    return None
+
+
 def holders(world, dot):
     """The seats that hold the dot, rising."""
     return tuple(seat for seat, book in sitting_entries(world) if has_head(book[THINGS], dot))
@@ -89,3 +97,12 @@ def markers(world, dot):
 def tellers(world, dot):
     """Seat and number of each letter that tells the dot as a thing, rising."""
     return tuple(letter[:2] for letter in world[2] if has_head(letter[2], dot))
+
+
+def all_tellers(world):
+    """The tellers of each dot that some letter tells as a thing: asked of many dots, the letters are read but once."""
+    told = {}
+    for letter in world[2]:
+        for held in letter[2]:
+            told.setdefault(held[0], []).append(letter[:2])
+    return told

@@ -27,6 +27,10 @@ INTERFACE = {
     "worldlines": "world_lines read_world",
     "backchecker": "lets_back steps_back",
     "contrary": "contrary_for verdict contrary_lines read_contrary",
+    "moving": "bring cut leave doubtful",
+    "deeds": "is_deed done walked",
+    "alldeeds": "deeds_from",
+    "renaming": "world_turned deed_turned",
 }
 
 BARRED = set("""type typing typing_extensions enum Enum IntEnum StrEnum Flag IntFlag Generic Protocol ABC ABCMeta
