@@ -31,6 +31,11 @@ INTERFACE = {
     "deeds": "is_deed done walked",
     "alldeeds": "deeds_from",
     "renaming": "world_turned deed_turned",
+    "views": "shown standing names_at sum_at row_at outline",
+    "alike": "are_alike apart missing",
+    "meetings": "meeting rounds",
+    "gone": "state_of gone_dots bringing",
+    "desk": "Desk",
 }
 
 BARRED = set("""type typing typing_extensions enum Enum IntEnum StrEnum Flag IntFlag Generic Protocol ABC ABCMeta
@@ -145,6 +150,11 @@ class Language(unittest.TestCase):
             defined = [node.name for node in tree.body if isinstance(node, (ast.FunctionDef, ast.ClassDef))]
             for name in names.split():
                 self.assertIn(name, defined)
+
+    def test_methods_are_defined_in_their_class(self):
+        tree = ast.parse((ROOT / "gonemarks" / "desk.py").read_text())
+        desk = next(node for node in tree.body if isinstance(node, ast.ClassDef) and node.name == "Desk")
+        self.assertIn("say", [node.name for node in desk.body if isinstance(node, ast.FunctionDef)])
 
 
 if __name__ == "__main__":
